@@ -1,0 +1,119 @@
+"""What several tests need: things of every kind, and searches through everything."""
+
+from itertools import product
+from random import Random
+
+from watchedways.books import Book
+from watchedways.errors import BadWord
+
+
+def nested(deep):
+    """A list, tuple and dict within one another, so deep."""
+    thing = "a"
+    for level in range(deep):
+        thing = ([thing], (thing, True), {"a": thing})[level % 3]
+    return thing
+
+
+def strange_things():
+    """Things of every kind that may be handed in: none of them a word of letters."""
+    return [
+        None, True, False, 0, 1, -1, 2, 41, 10 ** 30, "", "A", "1", " ", "a b", "a\n", "\n", "a-b", "~",
+        [], ["a"], [0, 1], [[]], (), ("a",), ("on",), (None,), (True,), (False, 1), ((),), ([], {}),
+        {}, {"a": 1}, {1: "a"}, {None: ("on", "a")}, {(): []}, nested(20), [nested(19)], (nested(19),),
+        Book([]), Book(["a", "ab"]), (Book([]), 1), [Book(["b"])], BadWord("a"),
+    ]
+
+
+def words_of(letters, most):
+    """All words of these letters with at most so many letters."""
+    return ["".join(word) for size in range(1, most + 1) for word in product(letters, repeat=size)]
+
+
+def piece_is_watch(watches, word, one, other):
+    low, high = min(one, other), max(one, other)
+    return low < high and word[low:high] in watches
+
+
+def all_zigzags(watches, word):
+    """All zigzags of the word, found by trying every way on."""
+    found, open_ways = [], [(0,)]
+    while open_ways:
+        way = open_ways.pop()
+        if way[-1] == len(word):
+            found.append(way)
+            continue
+        for spot in range(len(word) + 1):
+            if spot not in way and piece_is_watch(watches, word, way[-1], spot):
+                open_ways.append(way + (spot,))
+    return found
+
+
+def turns_of(way):
+    """The number of spots at which a zigzag goes on in the other direction."""
+    return sum((b > a) != (c > b) for a, b, c in zip(way, way[1:], way[2:]))
+
+
+def all_cuts(watches, word):
+    """All cuts of the word, found by trying every lot of spots."""
+    found = []
+    many = len(word) + 1
+    for flags in product((False, True), repeat=many):
+        if not flags[0] or flags[-1]:
+            continue
+        apart = all(
+            flags[one] == flags[other]
+            for one in range(many) for other in range(many)
+            if piece_is_watch(watches, word, one, other)
+        )
+        if apart:
+            found.append(tuple(spot for spot in range(many) if flags[spot]))
+    return found
+
+
+def caught(call, *given):
+    """The class and the value of the error that a call raises, or None and its answer."""
+    try:
+        return None, call(*given)
+    except ValueError as error:
+        return error.__class__, error.value
+
+
+def small_cases():
+    """Books and words small enough to be searched through."""
+    lots = []
+    for size in range(1, 11):
+        for lengths in ((1,), (2, 3), (3, 5), (2, 5), (3, 4), (1, 4), (4, 6), (5, 7), (2, 7), (2, 3, 5), (3, 7, 8)):
+            lots.append((["a" * length for length in lengths], "a" * size))
+    chance = Random(5)
+    for _ in range(600):
+        word = "".join(chance.choice("ab" if chance.random() < 0.7 else "abc") for _ in range(chance.randint(1, 9)))
+        pieces = sorted({word[i:j] for i in range(len(word)) for j in range(i + 1, len(word) + 1)} - {word})
+        pieces.append("ddd")
+        lots.append((chance.sample(pieces, min(len(pieces), chance.randint(0, 6))), word))
+    return lots
+
+
+LONG_WORDS = ["a" * 40, "ab" * 20, "abc" * 13 + "a", "a" * 39 + "b", "aab" * 13 + "a", "abcdefghij" * 4]
+LONG_BOOKS = [["a" * size for size in sizes] for sizes in (range(1, 13), (12, 11), (7, 11), (12, 8, 5), (1, 12))]
+LONG_BOOKS.append(["ab", "ba", "aba", "bab", "abab", "baba", "a", "b", "abc", "bca", "cab", "aab"])
+LONG_BOOKS.append(["aba", "ab", "babab", "abc", "bcab", "aab", "baa"])
+
+
+def turns_and_spots(watches, word):
+    """The fewest turns of a zigzag and with these the fewest spots, by rounds of steps; or None."""
+    spots = range(len(word) + 1)
+    reached = {(0, 0, True): 1}
+    ring = [(0, 0, True)]
+    while ring:
+        farther = []
+        for spot, turns, up in ring:
+            for other in spots:
+                if piece_is_watch(watches, word, spot, other):
+                    state = (other, turns + ((other > spot) != up), other > spot)
+                    if state not in reached and state[1] <= len(word):
+                        reached[state] = reached[spot, turns, up] + 1
+                        farther.append(state)
+        ring = farther
+    ends = [(state[1], reached[state]) for state in reached if state[0] == len(word)]
+    return min(ends) if ends else None

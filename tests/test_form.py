@@ -1,0 +1,168 @@
+"""The form of the package's files: a part of what ../shared/LANGUAGE.md asks for, and the interface."""
+
+import ast
+import builtins
+import importlib
+import inspect
+import re
+import unittest
+import warnings
+from pathlib import Path
+
+FOLDER = Path(__file__).resolve().parent.parent / "watchedways"
+PATHS = sorted(FOLDER.glob("*.py"))
+TREES = {path.stem: ast.parse(path.read_text(encoding="utf-8")) for path in PATHS}
+
+INTERFACE = {
+    "words": {"is_word": "thing"},
+    "books": {"Book": "watches", "Book.has": "thing", "Book.with_watch": "watch", "Book.without_watch": "watch",
+              "Book.__eq__": "other"},
+    "zigzags": {"neighbours": "book word spot", "classes": "book word", "is_told": "book word",
+                "is_zigzag": "book word thing", "zigzag": "book word", "calmest": "book word"},
+    "cuts": {"cut": "book word", "greatest_cut": "book word", "is_cut": "book word thing"},
+}
+
+LET_BUILTINS = set("""
+    len range enumerate zip min max sum abs sorted reversed int str bool list tuple dict set isinstance ord repr
+    any all divmod Exception ValueError TypeError KeyError IndexError LookupError NotImplemented
+""".split())
+LET_METHODS = set("""
+    append clear copy count endswith extend find get index insert isalnum isalpha isdigit islower isspace isupper
+    items join keys ljust lower lstrip partition pop remove replace reverse rfind rjust rpartition rsplit rstrip
+    setdefault split splitlines startswith strip update upper values zfill bit_length isascii
+""".split())
+LET_LIBRARY = {"heapq": {"heappush", "heappop", "heapify"}, "math": {"gcd", "lcm", "isqrt"}}
+LET_DUNDERS = set("__init__ __eq__ __add__ __sub__ __mul__ __radd__ __rsub__ __rmul__ __neg__ __repr__ __len__".split())
+BARRED_WORDS = set("""
+    typing enum Enum Flag Generic Protocol ABC namedtuple dataclass overload type register mro elements open input
+    law eval exec compile globals locals vars getattr setattr hasattr
+""".split())
+BARRED_NODES = (
+    ast.Global, ast.AsyncFunctionDef, ast.AsyncFor, ast.AsyncWith, ast.Await, ast.Div, ast.Try, ast.Match, ast.Set,
+    ast.AnnAssign, ast.Import, ast.Nonlocal, ast.Yield, ast.YieldFrom, ast.With,
+)
+
+
+def functions_of(tree):
+    return [node for node in ast.walk(tree) if isinstance(node, ast.FunctionDef)]
+
+
+def names_given(function):
+    """The parameters and local variables of a function."""
+    given = [node.arg for node in ast.walk(function) if isinstance(node, ast.arg)]
+    given += [node.id for node in ast.walk(function) if isinstance(node, ast.Name) and isinstance(node.ctx, ast.Store)]
+    return given
+
+
+class Files(unittest.TestCase):
+    def test_folder_holds_plain_files_alone(self):
+        held = [path.name for path in FOLDER.iterdir() if path.name != "__pycache__"]
+        self.assertEqual(sorted(held), [path.name for path in PATHS])
+        self.assertIn("__init__.py", held)
+        for name in held:
+            self.assertTrue(re.fullmatch(r"[a-z_]+\.py", name), name)
+
+    def test_sizes_and_signs(self):
+        for path in PATHS:
+            rows = path.read_text(encoding="utf-8").split("\n")
+            self.assertLessEqual(len(rows), 399, path)
+            for at, row in enumerate(rows, 1):
+                self.assertTrue(len(row) <= 120 and re.fullmatch("[ -~]*", row), (path, at))
+                self.assertEqual(row, row.rstrip(), (path, at))
+        for name, tree in TREES.items():
+            for function in functions_of(tree):
+                self.assertLessEqual(function.end_lineno - function.lineno + 1, 40, (name, function.name))
+
+    def test_no_warnings(self):
+        with warnings.catch_warnings():
+            warnings.simplefilter("error")
+            for path in PATHS:
+                compile(path.read_text(encoding="utf-8"), str(path), "exec")
+
+
+class Rows(unittest.TestCase):
+    def test_imports(self):
+        led = {}
+        for name, tree in TREES.items():
+            led[name] = []
+            for node in ast.walk(tree):
+                if isinstance(node, ast.ImportFrom):
+                    self.assertIn(node, tree.body, name)
+                    words = {word.name for word in node.names}
+                    self.assertEqual((node.level, {word.asname for word in node.names}), (0, {None}), name)
+                    if node.module in LET_LIBRARY:
+                        self.assertLessEqual(words, LET_LIBRARY[node.module], name)
+                        continue
+                    self.assertTrue(node.module.startswith("watchedways."), name)
+                    module = node.module.split(".")[1]
+                    led[name].append(module)
+                    defined = {node.name for node in TREES[module].body if hasattr(node, "name")}
+                    defined |= {node.targets[0].id for node in TREES[module].body if isinstance(node, ast.Assign)}
+                    self.assertLessEqual(words, defined, name)
+        while led:
+            free = [name for name in led if not set(led[name]) & set(led)]
+            self.assertTrue(free, f"files import from one another: {sorted(led)}")
+            for name in free:
+                del led[name]
+
+    def test_barred_words_and_nodes(self):
+        for name, tree in TREES.items():
+            for node in ast.walk(tree):
+                self.assertNotIsInstance(node, BARRED_NODES, (name, getattr(node, "lineno", 0)))
+                for field in ("id", "attr", "arg", "name"):
+                    self.assertNotIn(getattr(node, field, None), BARRED_WORDS, name)
+                if isinstance(node, ast.Constant):
+                    self.assertIsInstance(node.value, (int, str, type(None)), name)
+                    self.assertNotIn("%", str(node.value), name)
+                if isinstance(node, ast.Compare):
+                    for op, side in zip(node.ops, node.comparators):
+                        if isinstance(op, (ast.Is, ast.IsNot)):
+                            self.assertIsInstance(side, ast.Constant, name)
+                if isinstance(node, (ast.FunctionDef, ast.ClassDef)):
+                    self.assertEqual(node.decorator_list, [], name)
+
+    def test_names(self):
+        for name, tree in TREES.items():
+            barred = set(dir(builtins))
+            barred |= {word.name for node in tree.body if isinstance(node, ast.ImportFrom) for word in node.names}
+            barred |= {node.name for node in tree.body if isinstance(node, ast.ClassDef)}
+            for node in tree.body:
+                if isinstance(node, ast.FunctionDef):
+                    self.assertNotIn(node.name, barred, name)
+            for function in functions_of(tree):
+                for given in names_given(function):
+                    self.assertNotIn(given, barred, (name, function.name))
+                    self.assertFalse(given.startswith("__"), (name, function.name))
+                if function.name.startswith("__"):
+                    self.assertIn(function.name, LET_DUNDERS, name)
+
+    def test_calls(self):
+        own = {node.name for tree in TREES.values() for node in functions_of(tree)}
+        for name, tree in TREES.items():
+            for node in ast.walk(tree):
+                if isinstance(node, ast.Name) and node.id in dir(builtins):
+                    self.assertIn(node.id, LET_BUILTINS, name)
+                if isinstance(node, ast.Call) and isinstance(node.func, ast.Attribute):
+                    self.assertIn(node.func.attr, LET_METHODS | own | {"__init__"}, name)
+                if isinstance(node, ast.Call) and isinstance(node.func, ast.Name):
+                    if node.func.id in ("any", "all", "min", "max", "sum", "sorted"):
+                        for given in node.args:
+                            self.assertNotIsInstance(given, ast.GeneratorExp, (name, node.lineno))
+
+
+class Interface(unittest.TestCase):
+    def test_names_and_arguments(self):
+        for name, told in INTERFACE.items():
+            module = importlib.import_module("watchedways." + name)
+            defined = {node.name: node for node in TREES[name].body if hasattr(node, "name")}
+            for path, arguments in told.items():
+                thing, names = vars(module)[path.split(".")[0]], arguments.split()
+                self.assertEqual(thing.__module__, module.__name__)
+                self.assertIn(path.split(".")[0], defined)
+                if "." in path:
+                    thing, names = vars(thing)[path.split(".")[1]], ["self"] + names
+                self.assertEqual(list(inspect.signature(thing).parameters), names, path)
+
+
+if __name__ == "__main__":
+    unittest.main()

@@ -1,0 +1,1 @@
+"""Watchedways: what can be worked out from the tables of some ways."""
