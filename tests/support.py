@@ -5,6 +5,9 @@ from random import Random
 
 from watchedways.books import Book
 from watchedways.errors import BadWord
+from watchedways.lengths import Lengths
+from watchedways.ratios import Ratio
+from watchedways.reckonings import Reckoning
 
 
 def nested(deep):
@@ -22,6 +25,7 @@ def strange_things():
         [], ["a"], [0, 1], [[]], (), ("a",), ("on",), (None,), (True,), (False, 1), ((),), ([], {}),
         {}, {"a": 1}, {1: "a"}, {None: ("on", "a")}, {(): []}, nested(20), [nested(19)], (nested(19),),
         Book([]), Book(["a", "ab"]), (Book([]), 1), [Book(["b"])], BadWord("a"),
+        Ratio(0), Ratio(1), Ratio(1, 2), (Ratio(0), Ratio(1)), Lengths(), told(chain_tables(3)), [Lengths()],
     ]
 
 
@@ -117,3 +121,59 @@ def turns_and_spots(watches, word):
         ring = farther
     ends = [(state[1], reached[state]) for state in reached if state[0] == len(word)]
     return min(ends) if ends else None
+
+
+def chain_tables(many):
+    """The tables of the greater and the lesser worth."""
+    worths = range(many)
+    joins = [[max(a, b) for b in worths] for a in worths]
+    return joins, [[min(a, b) for b in worths] for a in worths], 0, many - 1
+
+
+def bounded_tables(many):
+    """The greater one, and sums that stop at the bottom."""
+    joins, _, none, one = chain_tables(many)
+    worths = range(many)
+    return joins, [[max(0, a + b - one) for b in worths] for a in worths], none, one
+
+
+def lot_tables(products, one):
+    """The tables of the lots of some things, by a table of their products."""
+    many = len(products)
+    lots = range(2 ** many)
+
+    def times(a, b):
+        made = {products[p][q] for p in range(many) for q in range(many) if a >> p & 1 and b >> q & 1}
+        return sum(2 ** thing for thing in made)
+
+    return [[a | b for b in lots] for a in lots], [[times(a, b) for b in lots] for a in lots], 0, 2 ** one
+
+
+FIRST_STAYS = [[0, 1, 2], [1, 1, 1], [2, 2, 2]]
+FIRST_STAYS_OR_END = [[0, 1, 2, 3], [1, 1, 1, 3], [2, 2, 2, 3], [3, 3, 3, 3]]
+THREE_TURNS = [[0, 1, 2], [1, 2, 0], [2, 0, 1]]
+
+
+def told(tables):
+    return Reckoning(*tables)
+
+
+def good_tables():
+    """Tables of reckonings of many kinds and sizes."""
+    found = [chain_tables(many) for many in (2, 3, 4, 9, 16)]
+    found += [bounded_tables(many) for many in (3, 4, 7, 16)]
+    found += [lot_tables([[0]], 0), lot_tables([[0, 1], [1, 0]], 0), lot_tables([[0, 1], [1, 1]], 0)]
+    found += [lot_tables(THREE_TURNS, 0), lot_tables(FIRST_STAYS, 0), lot_tables(FIRST_STAYS_OR_END, 0)]
+    found += [renamed(lot_tables(FIRST_STAYS, 0), [5, 2, 7, 0, 1, 6, 4, 3]), renamed(bounded_tables(4), [2, 0, 3, 1])]
+    return found
+
+
+def renamed(tables, names):
+    """The tables with each worth called otherwise."""
+    joins, products, none, one = tables
+    back = [names.index(worth) for worth in range(len(names))]
+
+    def under_names(table):
+        return [[names[table[back[a]][back[b]]] for b in range(len(names))] for a in range(len(names))]
+
+    return under_names(joins), under_names(products), names[none], names[one]

@@ -60,6 +60,13 @@ class MadeBooks(unittest.TestCase):
         self.assertEqual(caught(Book, ["a", None, "a"]), (BadWatches, 1))
 
 
+class Agreeable:
+    """A thing that says of everything that it is equal to it."""
+
+    def __eq__(self, other):
+        return True
+
+
 class EqualBooks(unittest.TestCase):
     def test_same_watches_in_any_order(self):
         self.assertTrue(Book(["a", "b", "ab"]) == Book(("ab", "a", "b")))
@@ -81,10 +88,6 @@ class EqualBooks(unittest.TestCase):
         self.assertIs(Book([]) == None, False)  # noqa: E711
 
     def test_nothing_that_says_so_of_itself(self):
-        class Agreeable:
-            def __eq__(self, other):
-                return True
-
         self.assertIs(Book(["a"]) == Agreeable(), False)
 
 
@@ -93,7 +96,7 @@ class AskedBooks(unittest.TestCase):
         book = Book(["b", "ab"])
         for watch, is_one in (("b", True), ("ab", True), ("a", False), ("ba", False), ("abb", False)):
             self.assertIs(book.has(watch), is_one)
-        for thing in strange_things():
+        for thing in strange_things() + [Agreeable()]:
             self.assertIs(book.has(thing), False)
         self.assertIs(Book([]).has("a"), False)
 

@@ -13,6 +13,15 @@ FOLDER = Path(__file__).resolve().parent.parent / "watchedways"
 PATHS = sorted(FOLDER.glob("*.py"))
 TREES = {path.stem: ast.parse(path.read_text(encoding="utf-8")) for path in PATHS}
 
+
+
+def methods_of(name):
+    """The methods of a reckoning."""
+    told = {"join": "a b", "times": "a b", "meet": "a b", "left": "a c", "right": "c a", "greatest": "",
+            "beneath": "a b", "is_worth": "thing", "__eq__": "other"}
+    return {f"{name}.{method}": told[method] for method in told}
+
+
 INTERFACE = {
     "words": {"is_word": "thing"},
     "books": {"Book": "watches", "Book.has": "thing", "Book.with_watch": "watch", "Book.without_watch": "watch",
@@ -20,6 +29,12 @@ INTERFACE = {
     "zigzags": {"neighbours": "book word spot", "classes": "book word", "is_told": "book word",
                 "is_zigzag": "book word thing", "zigzag": "book word", "calmest": "book word"},
     "cuts": {"cut": "book word", "greatest_cut": "book word", "is_cut": "book word thing"},
+    "rules": {"followed": "word rule", "rule": "book word", "calm_rule": "book word", "rule_of": "book word zigzag",
+              "unfold": "rule rules", "is_rule": "book word thing"},
+    "sayings": {"write_rule": "rule", "saying": "rule", "read_rule": "text", "read_saying": "text"},
+    "ratios": {"Ratio": "top bottom", "Ratio.over": "other", "Ratio.less": "other", "Ratio.__eq__": "other"},
+    "reckonings": {"Reckoning": "joins products none one", **methods_of("Reckoning")},
+    "lengths": {"Lengths": "", **methods_of("Lengths")},
 }
 
 LET_BUILTINS = set("""
@@ -148,6 +163,26 @@ class Rows(unittest.TestCase):
                     if node.func.id in ("any", "all", "min", "max", "sum", "sorted"):
                         for given in node.args:
                             self.assertNotIsInstance(given, ast.GeneratorExp, (name, node.lineno))
+
+
+    def test_ranges_are_iterated_at_once(self):
+        takers = {"list", "tuple", "dict", "sorted", "sum", "any", "all", "enumerate", "zip", "min", "max", "reversed"}
+        for name, tree in TREES.items():
+            let = set()
+            for node in ast.walk(tree):
+                if isinstance(node, (ast.For, ast.comprehension)):
+                    let.add(id(node.iter))
+                if isinstance(node, ast.Call) and isinstance(node.func, ast.Name) and node.func.id in takers:
+                    let.update(id(given) for given in node.args)
+                if isinstance(node, ast.Assign) and isinstance(node.targets[0], ast.Name):
+                    let.add(id(node.value))
+                if isinstance(node, ast.Compare) and isinstance(node.ops[0], (ast.In, ast.NotIn)):
+                    let.add(id(node.comparators[0]))
+            for node in ast.walk(tree):
+                if isinstance(node, ast.Call):
+                    called = getattr(node.func, "id", getattr(node.func, "attr", None))
+                    if called in ("range", "zip", "enumerate", "reversed", "items", "keys", "values"):
+                        self.assertIn(id(node), let, (name, node.lineno))
 
 
 class Interface(unittest.TestCase):
