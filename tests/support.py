@@ -6,8 +6,12 @@ from random import Random
 from watchedways.books import Book
 from watchedways.errors import BadWord
 from watchedways.lengths import Lengths
+from watchedways.numbers import Numbers
 from watchedways.ratios import Ratio
 from watchedways.reckonings import Reckoning
+from watchedways.speaking import Tongues
+from watchedways.tongues import Tongue, tongue_of
+from watchedways.webs import Web
 
 
 def nested(deep):
@@ -26,6 +30,8 @@ def strange_things():
         {}, {"a": 1}, {1: "a"}, {None: ("on", "a")}, {(): []}, nested(20), [nested(19)], (nested(19),),
         Book([]), Book(["a", "ab"]), (Book([]), 1), [Book(["b"])], BadWord("a"),
         Ratio(0), Ratio(1), Ratio(1, 2), (Ratio(0), Ratio(1)), Lengths(), told(chain_tables(3)), [Lengths()],
+        Numbers(), Tongues("01"), tongue_of("01", ["", "01"]), Tongue("0", [[0]], [0]), (Tongues("2"),),
+        Web(Lengths(), ["a", "b"], [("a", "x", "b", 3)]), [Web(Numbers(), ("a",), [])],
     ]
 
 
@@ -177,3 +183,93 @@ def renamed(tables, names):
         return [[names[table[back[a]][back[b]]] for b in range(len(names))] for a in range(len(names))]
 
     return under_names(joins), under_names(products), names[none], names[one]
+
+
+def texts_of(signs, most):
+    """All texts of these signs with at most so many signs, in order."""
+    return ["".join(text) for size in range(most + 1) for text in product(signs, repeat=size)]
+
+
+def random_states(chance, signs, most):
+    """Moves and ends of a machine with at most so many states."""
+    many = chance.randint(1, most)
+    moves = [[chance.randrange(many) for _ in signs] for _ in range(many)]
+    return moves, sorted(chance.sample(range(many), chance.randint(0, many)))
+
+
+def random_tongue(chance, signs, most):
+    """A tongue of a machine with at most so many states."""
+    return Tongue(signs, *random_states(chance, signs, most))
+
+
+def random_worth(chance, reckoning):
+    """A worth of the reckoning, now and then none."""
+    if chance.random() < 0.1:
+        return reckoning.none
+    if isinstance(reckoning, Reckoning):
+        return chance.randrange(len(reckoning.joins))
+    if isinstance(reckoning, Lengths):
+        return chance.choice([0, 1, 2, 3, 7, 20, 10 ** 30])
+    if isinstance(reckoning, Numbers):
+        return chance.choice([1, 2, -1, Ratio(1, 2), Ratio(-3, 7), Ratio(5), 10 ** 30, Ratio(1, 10 ** 20)])
+    texts = texts_of(reckoning.signs, 2)
+    return tongue_of(reckoning.signs, chance.sample(texts, min(len(texts), chance.randint(1, 3))))
+
+
+def kinds_of_reckonings():
+    """Reckonings of every kind, some whose product does not swap."""
+    found = [told(chain_tables(2)), told(chain_tables(5)), told(bounded_tables(4)), told(lot_tables(FIRST_STAYS, 0))]
+    return found + [told(lot_tables(THREE_TURNS, 0)), Lengths(), Numbers(), Tongues("01"), Tongues("7")]
+
+
+def joining_reckonings():
+    """All these but that of numbers."""
+    return [reckoning for reckoning in kinds_of_reckonings() if not isinstance(reckoning, Numbers)]
+
+
+NAMES = ["b", "a", "cc", "zebra", "abcdefgh", "q", "r", "s", "t", "u"]
+
+
+def random_web(chance, reckoning, places, letters, roads):
+    """A web of so many places with at most so many roads with these letters."""
+    names = NAMES[:places]
+    ends = list(product(names, letters, names))
+    kept = []
+    for one, letter, other in chance.sample(ends, min(len(ends), roads)):
+        worth = random_worth(chance, reckoning)
+        if worth != reckoning.none:
+            kept.append((one, letter, other, worth))
+    return Web(reckoning, names, kept)
+
+
+def random_table(chance, reckoning, many):
+    """A table of so many places; for numbers also with integers in it."""
+    return tuple(tuple(random_worth(chance, reckoning) for _ in range(many)) for _ in range(many))
+
+
+def worked_table(web, word):
+    """The table of the word, summed over all ways: lists of the worths of all of them, place by place."""
+    reckoning, table = web.reckoning, []
+    for start in web.places:
+        ways = {place: [] for place in web.places}
+        ways[start] = [reckoning.one]
+        for letter in word:
+            longer = {place: [] for place in web.places}
+            for one, sign, other, worth in web.roads:
+                if sign == letter:
+                    longer[other] += [reckoning.times(way, worth) for way in ways[one]]
+            ways = longer
+        table.append(tuple(joined(reckoning, ways[place]) for place in web.places))
+    return tuple(table)
+
+
+def joined(reckoning, worths):
+    found = reckoning.none
+    for worth in worths:
+        found = reckoning.join(found, worth)
+    return found
+
+
+def only_ratios(table):
+    """Whether it is a tuple of tuples of Ratios."""
+    return all(type(row) is tuple and all(type(item) is Ratio for item in row) for row in table)

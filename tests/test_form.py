@@ -35,6 +35,17 @@ INTERFACE = {
     "ratios": {"Ratio": "top bottom", "Ratio.over": "other", "Ratio.less": "other", "Ratio.__eq__": "other"},
     "reckonings": {"Reckoning": "joins products none one", **methods_of("Reckoning")},
     "lengths": {"Lengths": "", **methods_of("Lengths")},
+    "numbers": {"Numbers": "", "Numbers.join": "a b", "Numbers.times": "a b", "Numbers.is_worth": "thing",
+                "Numbers.__eq__": "other"},
+    "making": {"yes_no": "", "widths": "most", "turned": "reckoning", "beside": "one other", "lots": "products one",
+               "chain": "times"},
+    "webs": {"Web": "reckoning places roads", "Web.worth": "one letter other", "Web.table": "word",
+             "Web.tables": "book", "Web.__eq__": "other", "product": "reckoning one other",
+             "is_table": "reckoning many thing"},
+    "tongues": {"Tongue": "signs moves ends", "Tongue.has": "text", "Tongue.__eq__": "other",
+                "tongue_of": "signs texts", "again": "tongue", "turned_tongue": "tongue",
+                "first_texts": "tongue many", "many_texts": "tongue size"},
+    "speaking": {"Tongues": "signs", **methods_of("Tongues")},
 }
 
 LET_BUILTINS = set("""

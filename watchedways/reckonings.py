@@ -85,3 +85,9 @@ class Reckoning:
     def _right(self, c, a):
         column = [row[a] for row in self.products]
         return self._joined([b for b in range(len(column)) if self.joins[column[b]][c] == c])
+
+
+def check_told(reckoning):
+    """Raise BadReckoning if it is no told reckoning."""
+    if not isinstance(reckoning, Reckoning):
+        raise BadReckoning(reckoning)

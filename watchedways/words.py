@@ -4,6 +4,7 @@ from watchedways.errors import BadWord
 
 MOST_LETTERS = 40
 MOST_WATCH_LETTERS = 12
+MOST_NAME_LETTERS = 8
 
 
 def is_word(thing):
@@ -14,6 +15,16 @@ def is_word(thing):
 def is_watch(thing):
     """Whether it is a word of at most 12 letters."""
     return has_letters(thing, MOST_WATCH_LETTERS)
+
+
+def is_letter(thing):
+    """Whether it is one letter a to z."""
+    return has_letters(thing, 1)
+
+
+def is_name(thing):
+    """Whether it is a string of 1 to 8 letters."""
+    return has_letters(thing, MOST_NAME_LETTERS)
 
 
 def has_letters(thing, most):

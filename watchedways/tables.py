@@ -1,0 +1,74 @@
+"""Tables of worths."""
+
+from watchedways.numbers import Numbers
+from watchedways.ratios import as_ratio
+from watchedways.wholes import whole_chain
+
+MOST_PLACES = 10
+
+
+def is_table_of(reckoning, many, thing):
+    """Whether it is a table of so many places."""
+    if not isinstance(thing, tuple) or len(thing) != many:
+        return False
+    return all([is_table_row(reckoning, many, row) for row in thing])
+
+
+def is_table_row(reckoning, many, thing):
+    """Whether it is a tuple of so many worths."""
+    if not isinstance(thing, tuple) or len(thing) != many:
+        return False
+    return all([reckoning.is_worth(worth) for worth in thing])
+
+
+def is_any_table(reckoning, thing):
+    """Whether it is a table of 1 to 10 places."""
+    if not isinstance(thing, tuple) or not 1 <= len(thing) <= MOST_PLACES:
+        return False
+    return is_table_of(reckoning, len(thing), thing)
+
+
+def kept_worth(reckoning, worth):
+    """The worth as it is kept: for numbers a Ratio."""
+    return as_ratio(worth) if isinstance(reckoning, Numbers) else worth
+
+
+def kept_table(reckoning, table):
+    """The table with the worths as they are kept."""
+    return tuple([tuple([kept_worth(reckoning, worth) for worth in row]) for row in table])
+
+
+def unit_table(reckoning, many):
+    """The table with one where row and column are the same place, and none elsewhere."""
+    places = range(many)
+    return tuple([
+        tuple([reckoning.one if row == column else reckoning.none for column in places]) for row in places
+    ])
+
+
+def chained(reckoning, many, tables):
+    """The product of tables of so many places, one behind the other; for numbers they are of Ratios."""
+    if isinstance(reckoning, Numbers):
+        return whole_chain(many, tables)
+    found = unit_table(reckoning, many)
+    for at, table in enumerate(tables):
+        found = table if at == 0 else product_of_two(reckoning, found, table)
+    return found
+
+
+def product_of_two(reckoning, one, other):
+    """The product of two tables of the same size."""
+    columns = list(zip(*other))
+    return tuple([tuple([sum_along(reckoning, row, column) for column in columns]) for row in one])
+
+
+def sum_along(reckoning, row, column):
+    """The join of the products of the worths of a row and a column, one by one."""
+    none = reckoning.none
+    found = none
+    for a, b in zip(row, column):
+        # A product with none is none, and a join with none changes nothing.
+        if a != none and b != none:
+            made = reckoning.times(a, b)
+            found = made if found == none else reckoning.join(found, made)
+    return found
