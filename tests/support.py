@@ -273,3 +273,34 @@ def joined(reckoning, worths):
 def only_ratios(table):
     """Whether it is a tuple of tuples of Ratios."""
     return all(type(row) is tuple and all(type(item) is Ratio for item in row) for row in table)
+
+
+def on(watch):
+    return ("on", watch)
+
+
+def back(watch):
+    return ("back", watch)
+
+
+# Things that look like rules and are none.
+NO_RULES = [
+    (), [on("a")], (["on", "a"],), (("on",),), (("on", "a", "b"),), (("on", "a", 1),), (on(""),), (on("a" * 13),),
+    (on("A"),), (on(1),), (on(None),), (back("a"),), (on("a"), back("a")), (back("a"), on("a")), (("On", "a"),),
+    (("forth", "a"),), (("", "a"),), ((None, "a"),), ((True, "a"),), (on("a"), on("a"), ("off", "a"), on("a")),
+    (on("a"), ["on", "a"], on("a")), ("on", "a"), on("a"), "on a", ("on a",), (on("a"), None), (on("a"),) * 81,
+    ((("on",), "a"),), (on(("a",)),), {0: on("a")}, (on("a"), on("a" * 13), on("a")), (on("a"), back("a "), on("a")),
+    ((on("a"),),), (on("a"), (on("a"),)), ((["on"], ["a"]),), (("back", "a"), ("back", "a")),
+]
+
+# Books, words that they tell, and rules for them that turn, come to a spot twice, or go one way.
+TOLD_WORDS = [
+    (["aaaa", "aaa"], "aaaaa", (on("aaaa"), back("aaa"), on("aaaa"))),
+    (["ab", "b", "ba"], "aba", (on("ab"), back("b"), on("ba"))),
+    (["ab", "b", "ba"], "aba", (on("ab"), back("b"), on("b"), back("ab"), on("ab"), back("b"), on("ba"))),
+    (["xyxy", "yxy", "yxyx"], "xyxyx", (on("xyxy"), back("yxy"), on("yxyx"))),
+    (["x", "y"], "xxyx", (on("x"), on("x"), on("y"), on("x"))),
+    (["x", "y"], "xy", (on("x"), back("x"), on("x"), on("y"), back("y"), on("y"))),
+    (["aaaa", "aaa"], "aaaaaa", (on("aaaa"), back("aaa"), on("aaaa"), back("aaa"), on("aaaa"))),
+    (["abc", "bc", "bca"], "abca", (on("abc"), back("bc"), on("bca"))),
+]

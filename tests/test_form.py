@@ -46,6 +46,14 @@ INTERFACE = {
                 "tongue_of": "signs texts", "again": "tongue", "turned_tongue": "tongue",
                 "first_texts": "tongue many", "many_texts": "tongue size"},
     "speaking": {"Tongues": "signs", **methods_of("Tongues")},
+    "running": {"run": "reckoning tables rule", "run_back": "reckoning tables rule"},
+    "flats": {"flat_through": "width row rows", "flat_on": "flat table", "flat_back": "flat table",
+              "is_in_flat": "flat thing"},
+    "solving": {"solve": "tables rule"},
+    "partings": {"parting": "book word reckoning", "parting_roads": "book word",
+                 "is_parting": "book word reckoning thing", "tables_of_roads": "places roads word"},
+    "telling": {"tells": "book words", "tells_book": "one other", "rules_for": "one other", "needless": "book",
+                "told_words": "book letters most"},
 }
 
 LET_BUILTINS = set("""

@@ -4,7 +4,7 @@ from itertools import product
 from random import Random
 
 from tests.support import (
-    LONG_BOOKS, LONG_WORDS, all_zigzags, caught, small_cases, strange_things, turns_of, words_of,
+    LONG_BOOKS, LONG_WORDS, NO_RULES, all_zigzags, back, caught, on, small_cases, strange_things, turns_of, words_of,
 )
 from watchedways.books import Book
 from watchedways.errors import BadBook, BadRule, BadRules, BadWord, BadZigzag, TooMany
@@ -12,25 +12,7 @@ from watchedways.rules import calm_rule, followed, is_rule, rule, rule_of, unfol
 from watchedways.zigzags import calmest, zigzag
 
 
-def on(watch):
-    return ("on", watch)
-
-
-def back(watch):
-    return ("back", watch)
-
-
 DOCUMENT_RULE = (on("aaaa"), back("aaa"), on("aaaa"))
-
-# Things that look like rules and are none.
-NO_RULES = [
-    (), [on("a")], (["on", "a"],), (("on",),), (("on", "a", "b"),), (("on", "a", 1),), (on(""),), (on("a" * 13),),
-    (on("A"),), (on(1),), (on(None),), (back("a"),), (on("a"), back("a")), (back("a"), on("a")), (("On", "a"),),
-    (("forth", "a"),), (("", "a"),), ((None, "a"),), ((True, "a"),), (on("a"), on("a"), ("off", "a"), on("a")),
-    (on("a"), ["on", "a"], on("a")), ("on", "a"), on("a"), "on a", ("on a",), (on("a"), None), (on("a"),) * 81,
-    ((("on",), "a"),), (on(("a",)),), {0: on("a")}, (on("a"), on("a" * 13), on("a")), (on("a"), back("a "), on("a")),
-    ((on("a"),),), (on("a"), (on("a"),)), ((["on"], ["a"]),), (("back", "a"), ("back", "a")),
-]
 
 EIGHTY = (on("a"),) + (on("a"), back("a")) * 39 + (on("a"),)
 

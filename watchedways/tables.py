@@ -1,8 +1,11 @@
 """Tables of worths."""
 
+from watchedways.errors import BadRule, BadTables
 from watchedways.numbers import Numbers
 from watchedways.ratios import as_ratio
+from watchedways.steps import is_any_rule
 from watchedways.wholes import whole_chain
+from watchedways.words import is_watch
 
 MOST_PLACES = 10
 
@@ -72,3 +75,23 @@ def sum_along(reckoning, row, column):
             made = reckoning.times(a, b)
             found = made if found == none else reckoning.join(found, made)
     return found
+
+
+def check_run(reckoning, tables, rule):
+    """Raise BadTables or BadRule for what no rule can be run over."""
+    check_tables(reckoning, tables)
+    if not is_any_rule(rule) or not all([watch in tables for _, watch in rule]):
+        raise BadRule(rule)
+
+
+def check_tables(reckoning, tables):
+    """Raise BadTables if it is no dict from watches to tables of one size."""
+    if not isinstance(tables, dict) or not tables:
+        raise BadTables(-1)
+    sizes = []
+    for key in tables:
+        if not is_watch(key) or not is_any_table(reckoning, tables[key]):
+            raise BadTables(key)
+        sizes.append(len(tables[key]))
+        if sizes[-1] != sizes[0]:
+            raise BadTables(key)

@@ -79,6 +79,15 @@ def check_moves(many, moves):
             raise BadMoves(at)
 
 
+def check_texts(signs, texts):
+    """Raise BadTexts if it is no row of at most 20 texts, or for the first one that is none or too long."""
+    if not is_row(texts) or len(texts) > MOST_TEXTS:
+        raise BadTexts(-1)
+    for at, text in enumerate(texts):
+        if not is_text(signs, text) or len(text) > MOST_TEXT_SIGNS:
+            raise BadTexts(at)
+
+
 def check_tongue(tongue):
     """Raise BadTongue if it is none."""
     if not isinstance(tongue, Tongue):
@@ -100,11 +109,7 @@ def tongue_from(signs, machine):
 def tongue_of(signs, texts):
     """The tongue of just these texts."""
     check_signs(signs)
-    if not is_row(texts) or len(texts) > MOST_TEXTS:
-        raise BadTexts(-1)
-    for at, text in enumerate(texts):
-        if not is_text(signs, text) or len(text) > MOST_TEXT_SIGNS:
-            raise BadTexts(at)
+    check_texts(signs, texts)
 
     def after(begin, at):
         # Whatever begins no text leads to the one thing None, and stays there.

@@ -1,0 +1,58 @@
+"""Running a rule over the tables of its watches."""
+
+from watchedways.reckon import check_joining
+from watchedways.steps import ON
+from watchedways.tables import check_run, product_of_two, unit_table
+
+
+def run(reckoning, tables, rule):
+    """The table that the rule tells, worked out from its last step to its first."""
+    check_joining(reckoning)
+    check_run(reckoning, tables, rule)
+    found = unit_table(reckoning, len(tables[rule[0][1]]))
+    for kind, watch in rule[::-1]:
+        if kind == ON:
+            found = product_of_two(reckoning, tables[watch], found)
+        else:
+            found = lefts_of(reckoning, tables[watch], found)
+    return found
+
+
+def run_back(reckoning, tables, rule):
+    """The table that the rule tells, worked out from its first step to its last."""
+    check_joining(reckoning)
+    check_run(reckoning, tables, rule)
+    found = unit_table(reckoning, len(tables[rule[0][1]]))
+    for kind, watch in rule:
+        if kind == ON:
+            found = product_of_two(reckoning, found, tables[watch])
+        else:
+            found = rights_of(reckoning, tables[watch], found)
+    return found
+
+
+def lefts_of(reckoning, table, behind):
+    """The greatest table whose product behind this one is beneath the other one."""
+    columns, others = list(zip(*table)), list(zip(*behind))
+    return tuple([
+        tuple([
+            meet_of(reckoning, [reckoning.left(a, b) for a, b in zip(column, other)]) for other in others
+        ])
+        for column in columns
+    ])
+
+
+def rights_of(reckoning, table, ahead):
+    """The greatest table whose product ahead of this one is beneath the other one."""
+    return tuple([
+        tuple([meet_of(reckoning, [reckoning.right(b, a) for a, b in zip(row, other)]) for row in table])
+        for other in ahead
+    ])
+
+
+def meet_of(reckoning, worths):
+    """The meet of all these worths, one at least."""
+    found = worths[0]
+    for worth in worths[1:]:
+        found = reckoning.meet(found, worth)
+    return found
