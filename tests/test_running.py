@@ -291,6 +291,18 @@ class Errors(unittest.TestCase):
         self.assertEqual(self.both(yes_no(), self.GOOD, eighty), (None, ((1, 0), (1, 1))))
         self.assertEqual(self.both(yes_no(), self.GOOD, (on("a"),) * 81), (BadRule, (on("a"),) * 81))
 
+    def test_many_states_on_the_way(self):
+        # Only the tongues of the answer must not have too many states.
+        tongues = Tongues("0")
+        line = Tongue("0", [[at + 1] for at in range(151)] + [[151]], [150])
+        tables = {"a": ((line,),), "b": ((tongues.none,),), "c": ((tongues.one,),)}
+        for steps in ((on("a"), on("a"), on("b")), (on("b"), on("a"), on("a")), (on("b"), back("c"), on("a"), on("a"))):
+            self.assertEqual(self.both(tongues, tables, steps), (None, ((tongues.none,),)))
+        for steps in ((on("a"), on("a"), back("a"), on("c")), (on("c"), back("a"), on("a"), on("a"))):
+            answers = [call(tongues, tables, steps)[0][0] for call in (run, run_back)]
+            self.assertIn(tables["a"][0][0], answers)
+        self.assertEqual(self.both(tongues, tables, (on("a"), on("a"))), (TooMany, None))
+
     def test_too_many_states(self):
         line = Tongue("0", [[at + 1] for at in range(101)] + [[101]], [100])
         self.assertEqual(self.both(Tongues("0"), {"a": ((line,),)}, (on("a"), on("a"))), (TooMany, None))

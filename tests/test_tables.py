@@ -130,6 +130,21 @@ class WordTables(unittest.TestCase):
         self.assertEqual(len(web.table("x" * 33)[0][0].moves), 200)
         self.assertEqual(caught(web.table, "x" * 34), (TooMany, None))
 
+    def test_many_states_on_the_way(self):
+        # Only the tongues of the table that comes out must not have too many states.
+        tongues, names = Tongues("01"), NAMES[:4]
+        line = Tongue("01", [[at + 1] * 2 for at in range(151)] + [[151, 151]], [150])
+        roads = [(names[0], "x", names[1], line), (names[1], "x", names[2], line), (names[3], "x", names[3], line)]
+        web = Web(tongues, names, roads[:2])
+        self.assertEqual(caught(web.table, "xx"), (TooMany, None))
+        self.assertEqual(web.table("xxx"), tuple([(tongues.none,) * 4] * 4))
+        self.assertEqual(web.tables(Book(["xxx", "x"]))["xxx"], web.table("xxxx"))
+        self.assertEqual(caught(Web(tongues, names, roads).table, "xxx"), (TooMany, None))
+        every = Tongue("01", [[0, 0]], [0])
+        web = Web(tongues, ["p"], [("p", "x", "p", line), ("p", "y", "p", every)])
+        self.assertEqual(len(web.table("xy")[0][0].moves), 151)
+        self.assertEqual(caught(web.table, "xxy"), (TooMany, None))
+
     def test_lengths(self):
         web = Web(Lengths(), ["a", "b", "c"], [("a", "x", "b", 3), ("b", "x", "c", 4), ("a", "x", "a", 0), ("a", "x", "c", 9)])
         self.assertEqual(web.table("xx"), ((0, 3, 7), (None, None, None), (None, None, None)))

@@ -398,7 +398,7 @@ class Made(unittest.TestCase):
 
     def test_too_many(self):
         self.assertEqual(len(turned_tongue(self.kth_sign(6)).moves), 128)
-        for size in (7, 10):
+        for size in (7, 10, 30, 150):
             self.assertEqual(caught(turned_tongue, self.kth_sign(size)), (TooMany, None))
         self.assertEqual(turned_tongue(turned_tongue(self.kth_sign(6))), self.kth_sign(6))
 

@@ -59,12 +59,10 @@ def cleared(line, other):
 
 
 def lowest(line):
-    """The line with its head above 0 and nothing but 1 that divides all its integers."""
+    """The line with nothing but 1 that divides all its integers."""
     shared = 0
     for number in line:
         shared = gcd(shared, number)
-    if line[head_of(line)] < 0:
-        shared = -shared
     return [number // shared for number in line]
 
 

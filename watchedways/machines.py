@@ -3,19 +3,27 @@
 A MACHINE is a tuple (moves, ends): for each state the tuple of the states to which the signs
 lead, and the ascending tuple of the states at which a text may end; texts begin at the state 0.
 All machines that are handed on here are in the shortest form, so they are equal exactly if
-their texts are. How many states they have is bounded by nothing here.
+their texts are. They may have many more states than a tongue.
 """
 
+from watchedways.errors import TooMany
 from watchedways.merging import merged_states, states_ahead
+
+# Twice as many as callers ask for: what would go on beyond all bounds ends here.
+MOST_THINGS = 10000
 
 
 class Machines:
-    """The joins and products of machines of so many signs."""
+    """The reckoning of machines of so many signs."""
 
     def __init__(self, many):
         stay = tuple([1] * many)
         self.none = ((tuple([0] * many),), ())
         self.one = ((stay, stay), (0,))
+
+    def greatest(self):
+        """The machine of all texts."""
+        return (self.none[0], (0,))
 
     def join(self, a, b):
         """The machine of the texts of both."""
@@ -24,6 +32,18 @@ class Machines:
     def times(self, a, b):
         """The machine of the texts of the first with one of the second behind."""
         return one_behind(a, b)
+
+    def meet(self, a, b):
+        """The machine of the texts that belong to both."""
+        return in_both(a, b)
+
+    def left(self, a, c):
+        """The machine of all texts that make one of c behind each text of a."""
+        return behind_each(a, c)
+
+    def right(self, c, a):
+        """The machine of all texts that make one of c ahead of each text of a."""
+        return ahead_of_each(c, a)
 
 
 def machine_of(many, first, after, is_end):
@@ -39,6 +59,8 @@ def machine_of(many, first, after, is_end):
         for at in range(many):
             thing = after(things[len(moves)], at)
             if thing not in states:
+                if len(things) == MOST_THINGS:
+                    raise TooMany()
                 states[thing] = len(things)
                 things.append(thing)
             row.append(states[thing])

@@ -4,11 +4,9 @@ from watchedways.books import check_asked
 from watchedways.errors import BadMany, BadRoads, TooMany
 from watchedways.faults import is_below
 from watchedways.kinds import is_integer, is_row
-from watchedways.machines import Machines
 from watchedways.reckon import check_reckoning
 from watchedways.speaking import Tongues
-from watchedways.tables import chained
-from watchedways.tongues import machine_in
+from watchedways.tables import worked_chain
 from watchedways.walks import class_of, links_of
 from watchedways.webs import Web, letter_table
 from watchedways.words import check_word, is_letter
@@ -82,16 +80,11 @@ def is_parting(book, word, reckoning, thing):
 
 
 def wide_table(web, word):
-    """The table of the word, for tongues with machines of any number of states in their place."""
+    """The table of the word; for tongues as it is worked with, which may have any number of states."""
     if not isinstance(web.reckoning, Tongues):
         return web.table(word)
-    letters = {letter: machine_table(web, letter) for letter in word}
-    return chained(Machines(len(web.reckoning.signs)), len(web.places), [letters[letter] for letter in word])
-
-
-def machine_table(web, letter):
-    """The table of the letter, with machines in the place of tongues."""
-    return tuple([tuple([machine_in(tongue) for tongue in row]) for row in letter_table(web, letter)])
+    letters = {letter: letter_table(web, letter) for letter in word}
+    return worked_chain(web.reckoning, len(web.places), [letters[letter] for letter in word])
 
 
 def tables_of_roads(places, roads, word):

@@ -2,33 +2,33 @@
 
 from watchedways.reckon import check_joining
 from watchedways.steps import ON
-from watchedways.tables import check_run, product_of_two, unit_table
+from watchedways.tables import (
+    check_run, product_of_two, told_table, unit_table, worked_reckoning, worked_table,
+)
 
 
 def run(reckoning, tables, rule):
     """The table that the rule tells, worked out from its last step to its first."""
     check_joining(reckoning)
     check_run(reckoning, tables, rule)
-    found = unit_table(reckoning, len(tables[rule[0][1]]))
+    inner = worked_reckoning(reckoning)
+    found = unit_table(inner, len(tables[rule[0][1]]))
     for kind, watch in rule[::-1]:
-        if kind == ON:
-            found = product_of_two(reckoning, tables[watch], found)
-        else:
-            found = lefts_of(reckoning, tables[watch], found)
-    return found
+        table = worked_table(reckoning, tables[watch])
+        found = product_of_two(inner, table, found) if kind == ON else lefts_of(inner, table, found)
+    return told_table(reckoning, found)
 
 
 def run_back(reckoning, tables, rule):
     """The table that the rule tells, worked out from its first step to its last."""
     check_joining(reckoning)
     check_run(reckoning, tables, rule)
-    found = unit_table(reckoning, len(tables[rule[0][1]]))
+    inner = worked_reckoning(reckoning)
+    found = unit_table(inner, len(tables[rule[0][1]]))
     for kind, watch in rule:
-        if kind == ON:
-            found = product_of_two(reckoning, found, tables[watch])
-        else:
-            found = rights_of(reckoning, tables[watch], found)
-    return found
+        table = worked_table(reckoning, tables[watch])
+        found = product_of_two(inner, found, table) if kind == ON else rights_of(inner, table, found)
+    return told_table(reckoning, found)
 
 
 def lefts_of(reckoning, table, behind):

@@ -27,13 +27,14 @@ def solved_row(size, at, wholes, rule):
 
 
 def last_lines(size, at, wholes, rule):
-    """The lines of the lot behind the last step of the rule; no lines if the lot is empty."""
+    """The lines of the lot behind the last step of the rule.
+
+    Lines that stand for no row lead to such lines only, so an empty lot stays empty.
+    """
     lines = [[1] + [1 if place == at else 0 for place in range(size)]]
     for kind, watch in rule:
         if kind == ON:
             lines = lines_on(lines, wholes[watch])
         else:
             lines = lines_back(lines, wholes[watch])
-        if flat_in(lines) is None:
-            return []
     return lines

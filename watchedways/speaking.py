@@ -1,6 +1,6 @@
 """The reckoning of all tongues of some signs."""
 
-from watchedways.machines import Machines, ahead_of_each, behind_each, in_both, is_within
+from watchedways.machines import Machines, is_within
 from watchedways.tongues import Tongue, check_signs, machine_in, tongue_from
 from watchedways.worths import check_worths
 
@@ -40,18 +40,18 @@ class Tongues:
     def meet(self, a, b):
         """The tongue of the texts that belong to both."""
         check_worths(self, a, b)
-        return tongue_from(self.signs, in_both(machine_in(a), machine_in(b)))
+        return tongue_from(self.signs, self._machines.meet(machine_in(a), machine_in(b)))
 
     def greatest(self):
         """The tongue of all texts."""
-        return Tongue(self.signs, [[0] * len(self.signs)], [0])
+        return tongue_from(self.signs, self._machines.greatest())
 
     def left(self, a, c):
         """The tongue of all texts that make a text of c behind each text of a."""
         check_worths(self, a, c)
-        return tongue_from(self.signs, behind_each(machine_in(a), machine_in(c)))
+        return tongue_from(self.signs, self._machines.left(machine_in(a), machine_in(c)))
 
     def right(self, c, a):
         """The tongue of all texts that make a text of c ahead of each text of a."""
         check_worths(self, c, a)
-        return tongue_from(self.signs, ahead_of_each(machine_in(c), machine_in(a)))
+        return tongue_from(self.signs, self._machines.right(machine_in(c), machine_in(a)))

@@ -1,9 +1,12 @@
 """Tables of worths."""
 
 from watchedways.errors import BadRule, BadTables
+from watchedways.machines import Machines
 from watchedways.numbers import Numbers
 from watchedways.ratios import as_ratio
+from watchedways.speaking import Tongues
 from watchedways.steps import is_any_rule
+from watchedways.tongues import machine_in, tongue_from
 from watchedways.wholes import whole_chain
 from watchedways.words import is_watch
 
@@ -49,13 +52,43 @@ def unit_table(reckoning, many):
     ])
 
 
+def worked_reckoning(reckoning):
+    """The reckoning in which tables are worked out.
+
+    For tongues it is that of machines: only what comes out in the end must not have too
+    many states, whatever comes up on the way.
+    """
+    return Machines(len(reckoning.signs)) if isinstance(reckoning, Tongues) else reckoning
+
+
+def worked_table(reckoning, table):
+    """The table as it is worked with."""
+    if not isinstance(reckoning, Tongues):
+        return table
+    return tuple([tuple([machine_in(tongue) for tongue in row]) for row in table])
+
+
+def told_table(reckoning, table):
+    """The table that comes out, of what was worked with."""
+    if not isinstance(reckoning, Tongues):
+        return table
+    return tuple([tuple([tongue_from(reckoning.signs, machine) for machine in row]) for row in table])
+
+
 def chained(reckoning, many, tables):
     """The product of tables of so many places, one behind the other; for numbers they are of Ratios."""
     if isinstance(reckoning, Numbers):
         return whole_chain(many, tables)
-    found = unit_table(reckoning, many)
+    return told_table(reckoning, worked_chain(reckoning, many, tables))
+
+
+def worked_chain(reckoning, many, tables):
+    """The product of tables one behind the other, in a joining reckoning, as it is worked with."""
+    inner = worked_reckoning(reckoning)
+    found = unit_table(inner, many)
     for at, table in enumerate(tables):
-        found = table if at == 0 else product_of_two(reckoning, found, table)
+        behind = worked_table(reckoning, table)
+        found = behind if at == 0 else product_of_two(inner, found, behind)
     return found
 
 
