@@ -40,6 +40,25 @@ def worked_form(signs, moves, ends):
     return kept, tuple(at for at, text in enumerate(begins) if led(signs, moves, ends, text))
 
 
+def split_form(moves, ends):
+    """The shortest form, found by splitting all classes again and again in rounds."""
+    order = [0]
+    for state in order:
+        order += [there for there in dict.fromkeys(moves[state]) if there not in order]
+    classes, many = {state: state in ends for state in order}, 0
+    while many < len(set(classes.values())):
+        many = len(set(classes.values()))
+        names = {}
+        classes = {state: names.setdefault((classes[state], *[classes[there] for there in moves[state]]), len(names))
+                   for state in order}
+    firsts = {}
+    for state in order:
+        firsts.setdefault(classes[state], state)
+    kept = list(firsts)
+    return (tuple(tuple(kept.index(classes[there]) for there in moves[firsts[name]]) for name in kept),
+            tuple(at for at, name in enumerate(kept) if firsts[name] in ends))
+
+
 def line_tongue(signs, size):
     """The tongue of all texts with just so many signs: it has size + 2 states."""
     many = len(signs)
@@ -80,6 +99,19 @@ class Forms(unittest.TestCase):
                 self.assertEqual((tongue.moves, tongue.ends), worked_form(signs, moves, ends), (signs, moves, ends))
                 for text in texts_of(signs, 5 if len(signs) < 3 else 4):
                     self.assertIs(tongue.has(text), led(signs, moves, ends, text))
+
+    def test_large_machines(self):
+        chance = Random(17)
+        sizes = {}
+        for _ in range(300):
+            signs, many = chance.choice(["0", "01", "012"]), chance.choice([10, 30, 100, 200])
+            onward = chance.choice([(1, 1, 1, 2), (0, 1, 1), tuple(range(many))])
+            moves = [[(state + chance.choice(onward)) % many for _ in signs] for state in range(many)]
+            ends = sorted(chance.sample(range(many), chance.choice([1, 2, many // 2])))
+            tongue = Tongue(signs, moves, ends)
+            sizes[len(tongue.moves)] = True
+            self.assertEqual((tongue.moves, tongue.ends), split_form(moves, ends))
+        self.assertGreater(len(sizes), 20)
 
     def test_every_small_machine(self):
         for ends_flags in product((False, True), repeat=3):
