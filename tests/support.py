@@ -1,16 +1,18 @@
 """What several tests need: things of every kind, and searches through everything."""
 
-from itertools import product
+from itertools import combinations, product
 from random import Random
 
 from watchedways.books import Book
 from watchedways.errors import BadWord
+from watchedways.halls import Hall
 from watchedways.lengths import Lengths
 from watchedways.numbers import Numbers
 from watchedways.ratios import Ratio
 from watchedways.reckonings import Reckoning
 from watchedways.speaking import Tongues
 from watchedways.tongues import Tongue, tongue_of
+from watchedways.watchers import Watchers
 from watchedways.webs import Web
 
 
@@ -32,6 +34,7 @@ def strange_things():
         Ratio(0), Ratio(1), Ratio(1, 2), (Ratio(0), Ratio(1)), Lengths(), told(chain_tables(3)), [Lengths()],
         Numbers(), Tongues("01"), tongue_of("01", ["", "01"]), Tongue("0", [[0]], [0]), (Tongues("2"),),
         Web(Lengths(), ["a", "b"], [("a", "x", "b", 3)]), [Web(Numbers(), ("a",), [])],
+        Watchers([]), Watchers([("a", ["ab"])]), Hall(Lengths(), ["a"]), (Hall(Numbers(), ["a"]), Watchers([])),
     ]
 
 
@@ -43,6 +46,38 @@ def words_of(letters, most):
 def piece_is_watch(watches, word, one, other):
     low, high = min(one, other), max(one, other)
     return low < high and word[low:high] in watches
+
+
+def reaches(pieces, word):
+    """Whether one can go from the begin of the word to its end by these pieces, found by going on and on."""
+    reached, fresh = {0}, True
+    while fresh:
+        fresh = {
+            other for spot in reached for other in range(len(word) + 1)
+            if other not in reached and piece_is_watch(pieces, word, spot, other)
+        }
+        reached |= fresh
+    return len(word) in reached
+
+
+def order_of_words(word):
+    """What words are sorted by: shorter ones first."""
+    return len(word), word
+
+
+def sub_lots(things):
+    """All tuples of some of the things, in their order."""
+    return [tuple(lot) for size in range(len(things) + 1) for lot in combinations(things, size)]
+
+
+def least_of(lots):
+    """Those lots within which there is no other one, in the order given."""
+    return [lot for lot in lots if not any(set(other) < set(lot) for other in lots)]
+
+
+def greatest_of(lots):
+    """Those lots that are within no other one, in the order given."""
+    return [lot for lot in lots if not any(set(lot) < set(other) for other in lots)]
 
 
 def all_zigzags(watches, word):

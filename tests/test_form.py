@@ -13,8 +13,6 @@ FOLDER = Path(__file__).resolve().parent.parent / "watchedways"
 PATHS = sorted(FOLDER.glob("*.py"))
 TREES = {path.stem: ast.parse(path.read_text(encoding="utf-8")) for path in PATHS}
 
-
-
 def methods_of(name):
     """The methods of a reckoning."""
     told = {"join": "a b", "times": "a b", "meet": "a b", "left": "a c", "right": "c a", "greatest": "",
@@ -54,6 +52,23 @@ INTERFACE = {
                  "is_parting": "book word reckoning thing", "tables_of_roads": "places roads word"},
     "telling": {"tells": "book words", "tells_book": "one other", "rules_for": "one other", "needless": "book",
                 "told_words": "book letters most"},
+    "sublots": {"least_lots": "book words", "unable_lots": "book words", "is_least_lot": "book words thing",
+                "is_unable_lot": "book words thing"},
+    "watchers": {"Watchers": "watchers", "Watchers.names": "", "Watchers.sees": "names", "Watchers.can": "names word",
+                 "Watchers.least": "word", "Watchers.unable": "word", "Watchers.needed": "word",
+                 "Watchers.guards": "word"},
+    "prices": {"cheapest": "book word offers", "bars": "book word offers", "is_bars": "book word offers price thing"},
+    "far": {"powers": "book before middle behind", "far_told": "book before middle behind times"},
+    "lone": {"lone_told": "lengths last", "lone_gaps": "lengths"},
+    "fresh": {"fresh_web": "known", "sure_pairs": "known word"},
+    "halls": {"Hall": "reckoning places", "Hall.road": "one letter other worth", "Hall.watcher": "name",
+              "Hall.watch": "name watch", "Hall.unwatch": "name watch", "Hall.undo": "", "Hall.seen": "name watch",
+              "Hall.work_out": "names word", "Hall.watchers": "", "Hall.all_places": "", "Hall.trying": "deed"},
+    "listings": {"write_web": "web", "read_web": "text", "write_book": "book", "read_book": "text"},
+    "maps": {"is_map": "one other thing", "maps": "one other", "mapped": "web other led",
+             "mapped_table": "one other led table"},
+    "passing": {"passing": "watchers ties menu", "tells_at_last": "watchers ties menu name word",
+                "least_ties": "watchers ties menu name word"},
 }
 
 LET_BUILTINS = set("""
@@ -65,15 +80,17 @@ LET_METHODS = set("""
     items join keys ljust lower lstrip partition pop remove replace reverse rfind rjust rpartition rsplit rstrip
     setdefault split splitlines startswith strip update upper values zfill bit_length isascii
 """.split())
-LET_LIBRARY = {"heapq": {"heappush", "heappop", "heapify"}, "math": {"gcd", "lcm", "isqrt"}}
+LET_LIBRARY = {
+    "heapq": {"heappush", "heappop", "heapify"}, "math": {"gcd", "lcm", "isqrt"}, "itertools": {"combinations"},
+}
 LET_DUNDERS = set("__init__ __eq__ __add__ __sub__ __mul__ __radd__ __rsub__ __rmul__ __neg__ __repr__ __len__".split())
 BARRED_WORDS = set("""
     typing enum Enum Flag Generic Protocol ABC namedtuple dataclass overload type register mro elements open input
     law eval exec compile globals locals vars getattr setattr hasattr
 """.split())
 BARRED_NODES = (
-    ast.Global, ast.AsyncFunctionDef, ast.AsyncFor, ast.AsyncWith, ast.Await, ast.Div, ast.Try, ast.Match, ast.Set,
-    ast.AnnAssign, ast.Import, ast.Nonlocal, ast.Yield, ast.YieldFrom, ast.With,
+    ast.Global, ast.AsyncFunctionDef, ast.AsyncFor, ast.AsyncWith, ast.Await, ast.Div, ast.ExceptHandler, ast.Match,
+    ast.Set, ast.AnnAssign, ast.Import, ast.Nonlocal, ast.Yield, ast.YieldFrom, ast.With,
 )
 
 
@@ -154,6 +171,38 @@ class Rows(unittest.TestCase):
                             self.assertIsInstance(side, ast.Constant, name)
                 if isinstance(node, (ast.FunctionDef, ast.ClassDef)):
                     self.assertEqual(node.decorator_list, [], name)
+
+    def test_what_is_done_at_last(self):
+        for name, tree in TREES.items():
+            for node in ast.walk(tree):
+                for row in getattr(node, "finalbody", []):
+                    self.assertIsInstance(row, ast.Assign, (name, row.lineno))
+                    for part in ast.walk(row):
+                        let = (ast.Assign, ast.Tuple, ast.Name, ast.Attribute, ast.expr_context)
+                        self.assertIsInstance(part, let, (name, row.lineno))
+
+    def test_combinations(self):
+        for name, tree in TREES.items():
+            for function in functions_of(tree):
+                ranges = set()
+                for node in ast.walk(function):
+                    if isinstance(node, ast.For) and getattr(getattr(node.iter, "func", None), "id", "") == "range":
+                        ranges.add(node.target.id)
+                for node in ast.walk(function):
+                    if isinstance(node, ast.Call) and getattr(node.func, "id", "") == "combinations":
+                        self.assertEqual([part.__class__ for part in node.args], [ast.Name, ast.Name], name)
+                        self.assertIn(node.args[1].id, ranges, name)
+
+    def test_values_of_modules_are_plain(self):
+        for name, tree in TREES.items():
+            for node in tree.body:
+                let = (ast.Assign, ast.FunctionDef, ast.ClassDef, ast.ImportFrom, ast.Expr)
+                self.assertIsInstance(node, let, (name, node.lineno))
+                if isinstance(node, ast.Assign):
+                    for part in ast.walk(node.value):
+                        self.assertNotIsInstance(part, (ast.Call, ast.Attribute, ast.Dict, ast.List), (name, node.lineno))
+                        if isinstance(part, ast.BinOp) and isinstance(part.op, ast.Pow):
+                            self.assertTrue(0 <= part.right.value <= 64, (name, node.lineno))
 
     def test_names(self):
         for name, tree in TREES.items():

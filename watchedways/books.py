@@ -13,11 +13,10 @@ class Book:
     def __init__(self, watches):
         if not is_row(watches) or len(watches) > MOST_WATCHES:
             raise BadWatches(-1)
-        kept = tuple(watches)
-        for at, watch in enumerate(kept):
-            if not is_watch(watch) or watch in kept[:at]:
-                raise BadWatches(at)
-        self.watches = kept
+        wrong = wrong_watch(watches)
+        if wrong is not None:
+            raise BadWatches(wrong)
+        self.watches = tuple(watches)
 
     def __eq__(self, other):
         return isinstance(other, Book) and sorted(self.watches) == sorted(other.watches)
@@ -35,6 +34,14 @@ class Book:
         if not self.has(watch):
             raise BadWatch(watch)
         return Book([kept for kept in self.watches if kept != watch])
+
+
+def wrong_watch(watches):
+    """The index of the first item of a row that is no watch or stands ahead of it already, or None."""
+    for at, watch in enumerate(watches):
+        if not is_watch(watch) or watch in watches[:at]:
+            return at
+    return None
 
 
 def check_book(book):

@@ -5,10 +5,8 @@ from watchedways.errors import BadMany, BadRoads, TooMany
 from watchedways.faults import is_below
 from watchedways.kinds import is_integer, is_row
 from watchedways.reckon import check_reckoning
-from watchedways.speaking import Tongues
-from watchedways.tables import worked_chain
 from watchedways.walks import class_of, links_of
-from watchedways.webs import Web, letter_table
+from watchedways.webs import Web, wide_table
 from watchedways.words import check_word, is_letter
 
 MOST_PARTED_LETTERS = 4
@@ -77,14 +75,6 @@ def is_parting(book, word, reckoning, thing):
     if not all([wide_table(one, watch) == wide_table(other, watch) for watch in book.watches]):
         return False
     return wide_table(one, word) != wide_table(other, word)
-
-
-def wide_table(web, word):
-    """The table of the word; for tongues as it is worked with, which may have any number of states."""
-    if not isinstance(web.reckoning, Tongues):
-        return web.table(word)
-    letters = {letter: letter_table(web, letter) for letter in word}
-    return worked_chain(web.reckoning, len(web.places), [letters[letter] for letter in word])
 
 
 def tables_of_roads(places, roads, word):

@@ -11,24 +11,39 @@ def run(reckoning, tables, rule):
     """The table that the rule tells, worked out from its last step to its first."""
     check_joining(reckoning)
     check_run(reckoning, tables, rule)
-    inner = worked_reckoning(reckoning)
-    found = unit_table(inner, len(tables[rule[0][1]]))
-    for kind, watch in rule[::-1]:
-        table = worked_table(reckoning, tables[watch])
-        found = product_of_two(inner, table, found) if kind == ON else lefts_of(inner, table, found)
-    return told_table(reckoning, found)
+    return told_table(reckoning, run_over(reckoning, worked_tables(reckoning, tables, rule), rule))
 
 
 def run_back(reckoning, tables, rule):
     """The table that the rule tells, worked out from its first step to its last."""
     check_joining(reckoning)
     check_run(reckoning, tables, rule)
+    return told_table(reckoning, run_back_over(reckoning, worked_tables(reckoning, tables, rule), rule))
+
+
+def worked_tables(reckoning, tables, rule):
+    """The dict from the watches of the rule to their tables as they are worked with."""
+    return {watch: worked_table(reckoning, tables[watch]) for _, watch in rule}
+
+
+def run_over(reckoning, tables, rule):
+    """What run tells, from tables as they are worked with to such a table."""
+    inner = worked_reckoning(reckoning)
+    found = unit_table(inner, len(tables[rule[0][1]]))
+    for kind, watch in rule[::-1]:
+        table = tables[watch]
+        found = product_of_two(inner, table, found) if kind == ON else lefts_of(inner, table, found)
+    return found
+
+
+def run_back_over(reckoning, tables, rule):
+    """What run_back tells, likewise."""
     inner = worked_reckoning(reckoning)
     found = unit_table(inner, len(tables[rule[0][1]]))
     for kind, watch in rule:
-        table = worked_table(reckoning, tables[watch])
+        table = tables[watch]
         found = product_of_two(inner, found, table) if kind == ON else rights_of(inner, table, found)
-    return told_table(reckoning, found)
+    return found
 
 
 def lefts_of(reckoning, table, behind):

@@ -70,20 +70,23 @@ def worked_table(reckoning, table):
 
 def told_table(reckoning, table):
     """The table that comes out, of what was worked with."""
-    if not isinstance(reckoning, Tongues):
-        return table
-    return tuple([tuple([tongue_from(reckoning.signs, machine) for machine in row]) for row in table])
+    return tuple([tuple([told_worth(reckoning, worth) for worth in row]) for row in table])
+
+
+def told_worth(reckoning, worth):
+    """The worth that comes out, of what was worked with."""
+    return tongue_from(reckoning.signs, worth) if isinstance(reckoning, Tongues) else worth
 
 
 def chained(reckoning, many, tables):
     """The product of tables of so many places, one behind the other; for numbers they are of Ratios."""
-    if isinstance(reckoning, Numbers):
-        return whole_chain(many, tables)
     return told_table(reckoning, worked_chain(reckoning, many, tables))
 
 
 def worked_chain(reckoning, many, tables):
-    """The product of tables one behind the other, in a joining reckoning, as it is worked with."""
+    """The product of tables one behind the other, as it is worked with."""
+    if isinstance(reckoning, Numbers):
+        return whole_chain(many, tables)
     inner = worked_reckoning(reckoning)
     found = unit_table(inner, many)
     for at, table in enumerate(tables):

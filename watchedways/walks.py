@@ -11,15 +11,26 @@ DOWN = -1
 
 
 def links_of(book, word):
-    """The links of the word's spots."""
+    """The links of the word's spots by the watches of a book."""
+    return links_through(book.watches, word)
+
+
+def links_through(pieces, word):
+    """The links of the word's spots by any words."""
     links = [[] for _ in range(len(word) + 1)]
-    for low in range(len(word)):
-        for watch in book.watches:
-            high = low + len(watch)
-            if word[low:high] == watch:
-                links[low].append(high)
-                links[high].append(low)
+    for piece in pieces:
+        low = word.find(piece)
+        while low >= 0:
+            high = low + len(piece)
+            links[low].append(high)
+            links[high].append(low)
+            low = word.find(piece, low + 1)
     return [sorted(spots) for spots in links]
+
+
+def leads_through(pieces, word):
+    """Whether these words lead from the begin of the word to its end."""
+    return len(word) in steps_to(links_through(pieces, word), 0)
 
 
 def steps_to(links, goal):

@@ -5,7 +5,7 @@ from watchedways.errors import BadLetter, BadMany, BadName, BadTable, BadWeb, Ba
 from watchedways.kinds import is_integer, is_row
 from watchedways.reckon import check_reckoning
 from watchedways.tables import (
-    MOST_PLACES, chained, is_any_table, is_table_of, kept_table, kept_worth,
+    MOST_PLACES, chained, is_any_table, is_table_of, kept_table, kept_worth, told_table, worked_chain,
 )
 from watchedways.words import is_letter, is_name, is_word
 
@@ -45,13 +45,18 @@ class Web:
         """The table of the word; that of the empty one is the unit."""
         if word != "" and not is_word(word):
             raise BadWord(word)
-        letters = {letter: letter_table(self, letter) for letter in word}
-        return chained(self.reckoning, len(self.places), [letters[letter] for letter in word])
+        return told_table(self.reckoning, wide_table(self, word))
 
     def tables(self, book):
         """The dict from the watches of the book to their tables."""
         check_book(book)
         return {watch: self.table(watch) for watch in book.watches}
+
+
+def wide_table(web, word):
+    """The table of the word as it is worked with: for tongues it may have any number of states."""
+    letters = {letter: letter_table(web, letter) for letter in word}
+    return worked_chain(web.reckoning, len(web.places), [letters[letter] for letter in word])
 
 
 def letter_table(web, letter):

@@ -38,3 +38,8 @@ def check_word(word):
     """Raise BadWord if it is none."""
     if not is_word(word):
         raise BadWord(word)
+
+
+def in_order(words):
+    """The list of the words, the shorter ones first, those of one length as Python orders them."""
+    return sorted(words, key=lambda word: (len(word), word))

@@ -3,7 +3,7 @@
 from watchedways.books import check_asked
 from watchedways.errors import BadSpot
 from watchedways.kinds import is_integer
-from watchedways.walks import calmest_walk, class_of, fewest_walk, links_of, steps_to
+from watchedways.walks import calmest_walk, class_of, fewest_walk, leads_through, links_of
 
 
 def neighbours(book, word, spot):
@@ -29,7 +29,7 @@ def classes(book, word):
 def is_told(book, word):
     """Whether the book tells the word."""
     check_asked(book, word)
-    return 0 in steps_to(links_of(book, word), len(word))
+    return leads_through(book.watches, word)
 
 
 def zigzag(book, word):
