@@ -160,7 +160,7 @@ class Year(HallTest):
     def test_hundreds_of_deeds(self):
         chance = Random(291)
         for reckoning in kinds_of_reckonings():
-            many = 60 if isinstance(reckoning, Tongues) else 300
+            many = 150 if isinstance(reckoning, Tongues) else 300
             places = ["p", "q"] if isinstance(reckoning, Tongues) else ["q", "p", "r"]
             hall, plain = Hall(reckoning, places), Plain(reckoning, places)
             kinds, news = {}, 0

@@ -25,7 +25,7 @@ def goes_to(lengths, last):
 def rows_of_lengths():
     chance = Random(271)
     rows = [[1], [7], [60], [60, 59], [60, 58], [60, 1], [59, 60, 58], [6, 10, 15], [12, 18], [60] * 8, [7, 7], [5, 3, 5]]
-    rows += [[31, 60], [4, 6], (30, 60), [2, 60], list(range(53, 61)), [40, 41, 42], [13, 26, 39], [60, 60, 7]]
+    rows += [[59, 2, 4], [35, 6, 9], (31, 10, 20, 30), [2, 59, 4], [31, 60], [4, 6], (30, 60), [2, 60], list(range(53, 61)), [40, 41, 42], [13, 26, 39], [60, 60, 7]]
     for _ in range(60):
         most = chance.choice([5, 12, 30, 60])
         rows.append([chance.randint(1, most) for _ in range(chance.randint(1, 8))])

@@ -231,6 +231,9 @@ class Errors(unittest.TestCase):
                 kind, value = caught(call, word)
                 self.assertIs(kind, BadWord)
                 self.assertIs(value, word)
+            nobody = Watchers([])
+            for call in (nobody.least, nobody.unable, nobody.needed, nobody.guards, lambda word: nobody.can([], word)):
+                self.assertIs(caught(call, word)[0], BadWord)
         self.assertIs(w.can(["a", "b"], "a" * 40), True)
 
 

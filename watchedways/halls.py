@@ -15,7 +15,11 @@ from watchedways.words import check_word, is_name, is_watch
 
 
 class Hall:
-    """What is there now is put in the place of what was, never changed itself, so undo and trying need but keep it."""
+    """A web that nobody sees, and watchers.
+
+    A deed puts what is there behind it in the place of what was there ahead of it, which does
+    not change itself; so all that undo and trying need is to keep that.
+    """
 
     def __init__(self, reckoning, places):
         self._shown = Shown(Web(reckoning, places, ()), {})
@@ -116,9 +120,9 @@ class Hall:
     def _turn_to(self, web, watches):
         """Put this in the place of what is there, and tell the news."""
         shown = self._shown.turned_to(web)
-        seen = seen_by_any(watches)
-        # Nothing changes ahead of the news: for tongues there may be too many states in them.
-        news = news_between(self._shown, shown, [watch for watch in seen_by_any(self._watches) if watch in seen])
+        # No deed changes both roads and watches, so what has news was seen ahead of it exactly if it is behind it.
+        # Nothing is put in its place ahead of the news: for tongues there may be too many states in them.
+        news = news_between(self._shown, shown, seen_by_any(watches))
         self._shown, self._watches = shown, watches
         return news
 

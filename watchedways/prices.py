@@ -45,7 +45,7 @@ def is_bars(book, word, offers, price, thing):
 
 def cheaper_lots(offers, price):
     """The list of all lots of offers that are cheaper than the price, and within no other one that is."""
-    return greatest_unable(in_order(offers), lambda lot: price_of(offers, lot) >= price)
+    return greatest_unable(list(offers), lambda lot: price_of(offers, lot) >= price)
 
 
 def price_of(offers, lot):
