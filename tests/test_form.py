@@ -105,6 +105,12 @@ def names_given(function):
     return given
 
 
+def kept_ranges(function):
+    """The names to which a function assigns a range."""
+    rows = [node for node in ast.walk(function) if isinstance(node, ast.Assign) and isinstance(node.value, ast.Call)]
+    return [row.targets[0].id for row in rows if getattr(row.value.func, "id", "") == "range"]
+
+
 class Files(unittest.TestCase):
     def test_folder_holds_plain_files_alone(self):
         held = [path.name for path in FOLDER.iterdir() if path.name != "__pycache__"]
@@ -232,7 +238,6 @@ class Rows(unittest.TestCase):
                         for given in node.args:
                             self.assertNotIsInstance(given, ast.GeneratorExp, (name, node.lineno))
 
-
     def test_ranges_are_iterated_at_once(self):
         takers = {"list", "tuple", "dict", "sorted", "sum", "any", "all", "enumerate", "zip", "min", "max", "reversed"}
         for name, tree in TREES.items():
@@ -251,6 +256,22 @@ class Rows(unittest.TestCase):
                     called = getattr(node.func, "id", getattr(node.func, "attr", None))
                     if called in ("range", "zip", "enumerate", "reversed", "items", "keys", "values"):
                         self.assertIn(id(node), let, (name, node.lineno))
+
+    def test_kept_ranges_are_walked_alone(self):
+        """A name may keep a range, but the package reads it only behind the `in` of a loop or a comprehension."""
+        faults = []
+        for name, tree in TREES.items():
+            walked = {id(node.iter) for node in ast.walk(tree) if isinstance(node, (ast.For, ast.comprehension))}
+            for function in functions_of(tree):
+                inner = [node for node in ast.walk(function) if isinstance(node, (ast.Lambda, ast.GeneratorExp))]
+                within = {id(node) for lesser in inner for node in ast.walk(lesser)}
+                kept = kept_ranges(function)
+                faults += [(name, word, "assigned twice") for word in kept if names_given(function).count(word) != 1]
+                for node in ast.walk(function):
+                    if isinstance(node, ast.Name) and isinstance(node.ctx, ast.Load) and node.id in kept:
+                        if id(node) not in walked or id(node) in within:
+                            faults.append((name, node.id, node.lineno))
+        self.assertEqual(faults, [])
 
 
 class Interface(unittest.TestCase):

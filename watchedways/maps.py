@@ -52,7 +52,7 @@ def from_above(reckoning):
 
     So the join of two of them never comes behind both, and what a map cannot do shows early.
     """
-    worths = range(len(reckoning.joins))
+    worths = list(range(len(reckoning.joins)))
     above = [len([other for other in worths if reckoning.joins[worth][other] == other]) for worth in worths]
     return sorted(worths, key=lambda worth: (worth not in (reckoning.none, reckoning.one), above[worth]))
 
